@@ -1,0 +1,1 @@
+"""Latewords: held segments and delayed acknowledgments."""

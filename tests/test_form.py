@@ -1,0 +1,124 @@
+"""The interface as it is written, and those rules of the language that a look at the files can see."""
+
+import ast
+import builtins
+import importlib
+import inspect
+import pathlib
+import unittest
+
+FOLDER = pathlib.Path(__file__).resolve().parent.parent / "latewords"
+FUNCTIONS = {
+    "conversations": {"check": "(conversation)", "turns": "(conversation)", "normal_order": "(conversation, order)"},
+}
+METHODS = {
+    "settings": {
+        "Policy": {"__init__": "(self, hold='all', *, every=2, quick=0)", "__eq__": "(self, other)",
+                   "__str__": "(self)", "__repr__": "(self)"},
+        "Setting": {"__init__": "(self, size, *policies)", "changed": "(self, *, endpoint=None, **changes)",
+                    "__eq__": "(self, other)", "__str__": "(self)", "__repr__": "(self)"},
+    },
+    "roads": {
+        "Road": {
+            "__init__": "(self, setting, conversation)", "possible": "(self)", "do": "(self, event)",
+            "rest_of": "(self, endpoint)", "keeps": "(self, endpoint)", "sent_by": "(self, endpoint)",
+            "acknowledged_to": "(self, endpoint)", "received_by": "(self, endpoint)",
+            "pending_at": "(self, endpoint)", "segments_at": "(self, endpoint)", "way_from": "(self, endpoint)",
+            "undo": "(self)", "log": "(self)", "clearing": "(self)", "play": "(self, order='quick')",
+            "tried": "(self, function)", "__len__": "(self)",
+        },
+        "Trial": {"__init__": "(self, road)", "__enter__": "(self)", "__exit__": "(self, kind, value, trace)"},
+    },
+    "errors": {
+        name: {"__init__": f"(self, {field})"} for name, field in (
+            ("BadSetting", "name"), ("BadWrite", "index"), ("BadOrder", "index"), ("NotPossible", "event"),
+            ("TooLong", "many"), ("BadTalk", "index"), ("EndlessTurn", "endpoint"), ("BadPath", "index"),
+            ("BadText", "line"), ("BadRow", "column"), ("NoTurn", "turn"), ("NoArc", "arc"), ("NoName", "name"))
+    },
+}
+BUILTINS = {
+    "len", "range", "enumerate", "zip", "min", "max", "sum", "abs", "sorted", "reversed", "int", "str", "bool",
+    "list", "tuple", "dict", "set", "isinstance", "ord", "repr", "any", "all", "divmod", "Exception", "ValueError",
+    "TypeError", "KeyError", "IndexError", "LookupError", "RuntimeError", "NotImplemented", "property",
+}
+
+
+class InterfaceTest(unittest.TestCase):
+    def test_functions_are_defined_where_they_are_listed(self):
+        for module, functions in FUNCTIONS.items():
+            for name, signature in functions.items():
+                with self.subTest(module=module, name=name):
+                    function = getattr(importlib.import_module(f"latewords.{module}"), name)
+                    self.assertEqual(function.__module__, f"latewords.{module}")
+                    self.assertEqual(str(inspect.signature(function)), signature)
+
+    def test_methods_are_defined_in_their_class(self):
+        for module, classes in METHODS.items():
+            for name, methods in classes.items():
+                kind = getattr(importlib.import_module(f"latewords.{module}"), name)
+                self.assertEqual(kind.__module__, f"latewords.{module}")
+                for method, signature in methods.items():
+                    with self.subTest(module=module, name=name, method=method):
+                        self.assertEqual(str(inspect.signature(vars(kind)[method])), signature)
+
+
+class FormTest(unittest.TestCase):
+    def setUp(self):
+        self.files = sorted(FOLDER.glob("*.py"))
+        self.assertTrue(self.files)
+
+    def nodes(self, *kinds):
+        for file in self.files:
+            for node in ast.walk(ast.parse(file.read_text())):
+                if isinstance(node, kinds):
+                    yield file.name, node
+
+    def test_the_folder_holds_plain_files_only(self):
+        for file in FOLDER.iterdir():
+            if file.name != "__pycache__":
+                self.assertRegex(file.name, r"\A[a-z_]+\.py\Z")
+
+    def test_lines_and_characters(self):
+        for file in self.files:
+            text = file.read_text(encoding="utf-8")
+            lines = text.split("\n")
+            self.assertLessEqual(len(lines), 399, file.name)
+            self.assertTrue(all(letter == "\n" or " " <= letter <= "~" for letter in text), file.name)
+            for number, line in enumerate(lines, 1):
+                self.assertLessEqual(len(line), 120, (file.name, number))
+                self.assertEqual(line, line.rstrip(), (file.name, number))
+
+    def test_functions_are_small(self):
+        for name, node in self.nodes(ast.FunctionDef):
+            self.assertLessEqual(node.end_lineno - node.lineno + 1, 40, (name, node.name))
+
+    def test_imports_come_from_the_package(self):
+        for name, node in self.nodes(ast.Import, ast.ImportFrom):
+            self.assertIsInstance(node, ast.ImportFrom, name)
+            self.assertTrue(node.module.startswith("latewords."), (name, node.lineno))
+            defined = ast.parse((FOLDER / f"{node.module.split('.')[1]}.py").read_text()).body
+            for alias in node.names:
+                self.assertIn(alias.name, [getattr(item, "name", None) for item in defined], (name, node.lineno))
+
+    def test_what_is_left_out_of_the_language(self):
+        for name, node in self.nodes(ast.Global, ast.AsyncFunctionDef, ast.GeneratorExp, ast.Try, ast.Div):
+            self.fail((name, getattr(node, "lineno", None), node))
+        for name, node in self.nodes(ast.Constant):
+            self.assertNotIsInstance(node.value, (float, complex), (name, node.lineno))
+            if isinstance(node.value, str):
+                self.assertNotIn("%", node.value, (name, node.lineno))
+        for name, node in self.nodes(ast.FunctionDef, ast.ClassDef):
+            for decorator in node.decorator_list:
+                self.assertEqual(ast.unparse(decorator), "property", (name, node.name))
+
+    def test_builtins(self):
+        for name, node in self.nodes(ast.Name):
+            if node.id in vars(builtins):
+                self.assertIsInstance(node.ctx, ast.Load, (name, node.lineno))
+                self.assertIn(node.id, BUILTINS, (name, node.lineno))
+        for name, node in self.nodes(ast.arg, ast.FunctionDef, ast.ClassDef):
+            self.assertNotIn(getattr(node, "arg", getattr(node, "name", None)), vars(builtins), name)
+
+
+if __name__ == "__main__":
+    unittest.main()
