@@ -31,6 +31,13 @@ class Side:
         side.way = list(self.way)
         return side
 
+    def prospect(self):
+        """Return what decides, with the writes to come, all that this side may still do."""
+        # Which bytes were sent and received follows from the writes made, the rest and what is on the way.
+        early = min(self.segments, self.policy.quick)
+        partial_end = max(self.partial_end, self.acknowledged)
+        return (self.rest, self.kept, self.acknowledged, partial_end, self.pending, early, tuple(self.way))
+
     def permits(self):
         """Tell whether the hold policy permits a partial segment now."""
         if self.policy.hold == "all":
@@ -97,6 +104,11 @@ class Moment:
     def copied(self):
         """Return a new moment that is like this one."""
         return Moment([side.copied() for side in self.sides], self.made, self.stalls)
+
+    def prospect(self):
+        """Return what decides all that may still happen: where two moments have the same, it is the same."""
+        zero, one = self.sides
+        return (self.made, zero.prospect(), one.prospect())
 
     def make(self, write):
         """Make a write."""

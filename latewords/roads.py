@@ -93,6 +93,10 @@ class Road:
         """Return the things on the way from an endpoint as tuples (bytes, acknowledged), oldest first."""
         return list(self._now.sides[endpoint].way)
 
+    def prospect(self):
+        """Return what decides all that may still happen: where it is the same, the same may happen."""
+        return self._now.prospect()
+
     def undo(self):
         """Take the last event back and return it."""
         if len(self._past) == self._floor:

@@ -10,6 +10,12 @@ import unittest
 FOLDER = pathlib.Path(__file__).resolve().parent.parent / "latewords"
 FUNCTIONS = {
     "conversations": {"check": "(conversation)", "turns": "(conversation)", "normal_order": "(conversation, order)"},
+    "searches": {"search": "(setting, conversation)"},
+    "states": {"written": "(setting, speaker, state, length, mode='plain')", "cleared": "(setting, speaker, state)",
+               "ended": "(setting, speaker, state)"},
+    "outcomes": {"outcome": "(setting, conversation, order='quick')", "least": "(setting, conversation)",
+                 "most": "(setting, conversation)", "verdicts": "(setting, conversation)"},
+    "sizes": {"bands": "(setting, conversation)", "padding": "(setting, conversation, turn=0)"},
 }
 METHODS = {
     "settings": {
@@ -29,6 +35,16 @@ METHODS = {
         },
         "Trial": {"__init__": "(self, road)", "__enter__": "(self)", "__exit__": "(self, kind, value, trace)"},
     },
+    "states": {
+        "TurnState": {
+            "__init__": "(self, rest=0, kept=False, blocked=False, stuck=False, pending=0, quick=0)",
+            "__eq__": "(self, other)", "__repr__": "(self)",
+        },
+    },
+    "outcomes": {
+        "Outcome": {"__init__": "(self, stalls=0, segments=0, acknowledgments=0, stalled=())",
+                    "__eq__": "(self, other)", "__bool__": "(self)", "__repr__": "(self)"},
+    },
     "errors": {
         name: {"__init__": f"(self, {field})"} for name, field in (
             ("BadSetting", "name"), ("BadWrite", "index"), ("BadOrder", "index"), ("NotPossible", "event"),
@@ -41,6 +57,17 @@ BUILTINS = {
     "list", "tuple", "dict", "set", "isinstance", "ord", "repr", "any", "all", "divmod", "Exception", "ValueError",
     "TypeError", "KeyError", "IndexError", "LookupError", "RuntimeError", "NotImplemented", "property",
 }
+
+
+def names_defined(file):
+    """The names that a file binds at module level, but for what it imports."""
+    found = []
+    for node in ast.parse(file.read_text()).body:
+        if isinstance(node, (ast.FunctionDef, ast.ClassDef)):
+            found.append(node.name)
+        elif isinstance(node, ast.Assign):
+            found.extend(target.id for target in node.targets)
+    return found
 
 
 class InterfaceTest(unittest.TestCase):
@@ -96,9 +123,9 @@ class FormTest(unittest.TestCase):
         for name, node in self.nodes(ast.Import, ast.ImportFrom):
             self.assertIsInstance(node, ast.ImportFrom, name)
             self.assertTrue(node.module.startswith("latewords."), (name, node.lineno))
-            defined = ast.parse((FOLDER / f"{node.module.split('.')[1]}.py").read_text()).body
+            defined = names_defined(FOLDER / f"{node.module.split('.')[1]}.py")
             for alias in node.names:
-                self.assertIn(alias.name, [getattr(item, "name", None) for item in defined], (name, node.lineno))
+                self.assertIn(alias.name, defined, (name, node.lineno))
 
     def test_what_is_left_out_of_the_language(self):
         for name, node in self.nodes(ast.Global, ast.AsyncFunctionDef, ast.GeneratorExp, ast.Try, ast.Div):

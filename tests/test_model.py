@@ -1,36 +1,16 @@
 """Points 3 to 8 and 11 over many small conversations: the road against one that keeps each byte by itself."""
 
-import itertools
 import random
 import unittest
 
-from latewords.conversations import MODES, normal_order, turns
+from latewords.conversations import normal_order, turns
 from latewords.roads import Road, Trial
-from latewords.settings import Policy, Setting
+from tests.cases import orders_of, some_case
 from tests.replay import Replay, played
 from tests.values import picture, side_of
 
 SEED = 20261119
 WALKS = 700
-
-
-def some_policy(chance):
-    return Policy(chance.choice(Policy.HOLDS), every=chance.choice([0, 1, 1, 2, 2, 3, 9]),
-                  quick=chance.choice([0, 0, 1, 2, 4]))
-
-
-def some_case(chance, most_writes=7):
-    setting = Setting(chance.randint(1, 5), some_policy(chance), some_policy(chance))
-    writes = []
-    for _ in range(chance.randint(0, most_writes)):
-        speaker = writes[-1][0] if writes and chance.random() < 0.65 else chance.randint(0, 1)
-        writes.append((speaker, chance.randint(1, 11), chance.choice(MODES + ("plain",))))
-    return setting, writes
-
-
-def orders_of(conversation):
-    starts = [start for _, start, _ in turns(conversation)]
-    return itertools.product(*[[0] if at in starts else [0, 1, 2] for at in range(len(conversation))])
 
 
 class ModelTest(unittest.TestCase):

@@ -1,0 +1,104 @@
+"""All orders of a conversation at once, turn by turn (points 8 and 14)."""
+
+from latewords.conversations import MOST_CLEARINGS, turns
+from latewords.stances import Stances
+
+
+class AllOrders:
+    """The ways in which the turns of a conversation can end.
+
+    From one turn to the next only the quick of endpoints 0 and 1 matters, a tuple called quicks.
+    """
+
+    def __init__(self, setting, conversation):
+        self._size = setting.size
+        self._turns = turns(conversation)
+        self._writes = list(conversation)
+        self._stances = [Stances(setting, 0), Stances(setting, 1)]
+        self._known = {}
+        zero, one = setting.policies
+        self.first_quicks = (zero.quick, one.quick)
+        self.turn_count = len(self._turns)
+
+    def endings(self, number, quicks):
+        """Return the ways in which a turn can end that begins with these quicks.
+
+        They are tuples (stalls, quicks at the end, numbers of clearings before the writes of the turn).
+        """
+        speaker, start, stop = self._turns[number]
+        quick = quicks[1 - speaker]
+        if (number, quick) not in self._known:
+            writes = self._writes[start:stop]
+            self._known[(number, quick)] = turn_endings(self._stances[speaker], self._size, writes, quick)
+        return [(stalls, with_quick(quicks, 1 - speaker, left), clearings)
+                for (stalls, left), clearings in self._known[(number, quick)].items()]
+
+    def starts(self, count):
+        """Return for each of the first so many turns the quicks with which it begins in some order, ascending."""
+        found = [[self.first_quicks]]
+        for number in range(count - 1):
+            after = [ending[1] for quicks in found[-1] for ending in self.endings(number, quicks)]
+            found.append(sorted(set(after)))
+        return found[:count]
+
+
+def with_quick(quicks, endpoint, quick):
+    """Return the quicks with that of an endpoint replaced."""
+    return (quick, quicks[1]) if endpoint == 0 else (quicks[0], quick)
+
+
+def turn_endings(stances, size, writes, quick):
+    """Return a dict from each (stalls, quick) with which a turn can end to clearings that lead to it.
+
+    The turn begins with the listener's quick; its clearings are a number for each write.
+    """
+    # At the beginning clearings change nothing, so the first write gets 0 as an order wants it.
+    layer = {(0, (False, False, False, 0, quick)): None}
+    layers = []
+    for write in writes:
+        layer = next_layer(stances, size, layer, write)
+        layers.append(layer)
+    found = {}
+    for place in layer:
+        rest, stance = place
+        stalls, left, _ = stances.at_end(stance, rest > 0)
+        if (stalls, left) not in found:
+            found[(stalls, left)] = clearings_to(layers, place)
+    return found
+
+
+def next_layer(stances, size, layer, write):
+    """Return the places after a write, each with the place before it and the number of clearings between.
+
+    A place is a state as a tuple (rest, stance); layer holds all places before the write.
+    """
+    endpoint, length, mode = write
+    found = {}
+    for place in layer:
+        for clearings, (rest, stance) in enumerate(cleared_places(stances, place)):
+            full, left = divmod(rest + length, size)
+            after, is_sent, _ = stances.after_write(stance, full, left > 0, mode)
+            found.setdefault((0 if is_sent else left, after), (place, clearings))
+    return found
+
+
+def cleared_places(stances, place):
+    """Return the places after 0, 1 .. clearings, up to where one more changes nothing."""
+    places = [place]
+    for _ in range(MOST_CLEARINGS):
+        rest, stance = places[-1]
+        after, is_sent, acknowledgments = stances.after_clearing(stance, rest > 0)
+        following = (0 if is_sent else rest, after)
+        if following == places[-1]:
+            break
+        places.append(following)
+    return places
+
+
+def clearings_to(layers, place):
+    """Return the numbers of clearings, one before each write, that lead to a place of the last layer."""
+    found = []
+    for layer in reversed(layers):
+        place, clearings = layer[place]
+        found.append(clearings)
+    return found[::-1]
