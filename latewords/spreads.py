@@ -30,7 +30,7 @@ def grouped(rests):
 
 def with_clearings(stances, spread):
     """Return the states after each number of clearings that an order may have before a write."""
-    found = dict(spread)
+    found = {stance: rests for stance, rests in spread.items()}
     for _ in range(MOST_CLEARINGS):
         spread = clear_spread(stances, spread)
         for stance, rests in spread.items():
