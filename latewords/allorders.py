@@ -1,6 +1,7 @@
 """All orders of a conversation at once, turn by turn (points 8 and 14)."""
 
-from latewords.conversations import MOST_CLEARINGS, turns
+from latewords.conversations import turns
+from latewords.places import cleared_places, ended_place, first_place, written_place
 from latewords.stances import Stances
 
 
@@ -53,52 +54,35 @@ def turn_endings(stances, size, writes, quick):
     The turn begins with the listener's quick; its clearings are a number for each write.
     """
     # At the beginning clearings change nothing, so the first write gets 0 as an order wants it.
-    layer = {(0, (False, False, False, 0, quick)): None}
+    layer = {first_place(quick): None}
     layers = []
     for write in writes:
         layer = next_layer(stances, size, layer, write)
         layers.append(layer)
     found = {}
     for place in layer:
-        rest, stance = place
-        stalls, left, _ = stances.at_end(stance, rest > 0)
-        if (stalls, left) not in found:
-            found[(stalls, left)] = clearings_to(layers, place)
+        ending = ended_place(stances, place)
+        if ending not in found:
+            found[ending] = clearings_to(layers, place)
     return found
 
 
 def next_layer(stances, size, layer, write):
     """Return the places after a write, each with the place before it and the number of clearings between.
 
-    A place is a state as a tuple (rest, stance); layer holds all places before the write.
+    Layer holds all places before the write.
     """
-    endpoint, length, mode = write
     found = {}
     for place in layer:
-        for clearings, (rest, stance) in enumerate(cleared_places(stances, place)):
-            full, left = divmod(rest + length, size)
-            after, is_sent, _ = stances.after_write(stance, full, left > 0, mode)
-            found.setdefault((0 if is_sent else left, after), (place, clearings))
+        for clearings, cleared in enumerate(cleared_places(stances, place)):
+            found.setdefault(written_place(stances, size, cleared, write), (place, clearings))
     return found
-
-
-def cleared_places(stances, place):
-    """Return the places after 0, 1 .. clearings, up to where one more changes nothing."""
-    places = [place]
-    for _ in range(MOST_CLEARINGS):
-        rest, stance = places[-1]
-        after, is_sent, acknowledgments = stances.after_clearing(stance, rest > 0)
-        following = (0 if is_sent else rest, after)
-        if following == places[-1]:
-            break
-        places.append(following)
-    return places
 
 
 def clearings_to(layers, place):
     """Return the numbers of clearings, one before each write, that lead to a place of the last layer."""
     found = []
-    for layer in reversed(layers):
+    for layer in reversed(list(layers)):
         place, clearings = layer[place]
         found.append(clearings)
     return found[::-1]
