@@ -20,6 +20,12 @@ FUNCTIONS = {
               "most_stalls": "(talk, setting, turns)", "share": "(talk, setting)"},
     "papers": {"stall_paper": "(talk, setting)", "never_paper": "(talk, setting)", "share_paper": "(talk, setting)",
                "holds": "(talk, setting, paper)"},
+    "cures": {"cure": "(setting, conversation, *, mode='push')", "cure_talk": "(talk, setting, *, mode='push')",
+              "changed_conversation": "(conversation, choice, mode)", "changed_talk": "(talk, choice, mode)"},
+    "gaps": {"gap": "(talk, one, other, *, order='quick')",
+             "gap_holds": "(talk, one, other, answer, *, order='quick')"},
+    "texts": {"show_conversation": "(conversation)", "read_conversation": "(text)", "read_policy": "(text)",
+              "read_setting": "(text)", "show_talk": "(talk)", "read_talk": "(text)"},
 }
 METHODS = {
     "settings": {
@@ -58,6 +64,7 @@ METHODS = {
         "TurnGraph": {"__init__": "(self, talk, setting)", "stations": "(self)", "arcs": "(self)",
                       "witness": "(self, arc)"},
     },
+    "desk": {"Desk": {"__init__": "(self)", "say": "(self, row)"}},
     "errors": {
         name: {"__init__": f"(self, {field})"} for name, field in (
             ("BadSetting", "name"), ("BadWrite", "index"), ("BadOrder", "index"), ("NotPossible", "event"),
