@@ -3,7 +3,6 @@
 from latewords.duets import Duet
 from latewords.graphs import arcs_by_source, reached, returns
 from latewords.integers import is_integer
-from latewords.settings import MOST_QUICK
 from latewords.talks import path_writes
 from latewords.turnways import edges_by_node
 

@@ -4,11 +4,10 @@ from heapq import heappop, heappush
 from math import gcd
 
 from latewords.graphs import arcs_by_source, returns
-from latewords.settings import MOST_QUICK
 from latewords.turngraphs import TurnGraph, first_station
 
-# Each turn brings at least one segment, and the speakers take turns: after so many all first segments are counted.
-MOST_EARLY_TURNS = 2 * MOST_QUICK
+# Each turn brings at least one segment, and at most 4 of each listener are its first ones: after so many turns none is.
+MOST_EARLY_TURNS = 8
 
 
 def first_stall(talk, setting):
